@@ -616,17 +616,26 @@ func digitsOf(word string) ([]int64, bool) {
 	return digits, true
 }
 
+// digitOf returns the digit that a word consists of, false if it is not one.
+func digitOf(word string) (int64, bool) {
+	digits, ok := digitsOf(word)
+	if !ok || len(digits) != 1 {
+		return 0, false
+	}
+	return digits[0], true
+}
+
 // relOfText returns the relation, valid for a size, with the given text.
 func relOfText(size int64, text string) (Rel, bool) {
 	words := strings.Split(text, " ")
 	if len(words) < 2 || words[0] != "rel" {
 		return Rel{}, false
 	}
-	arity, ok := digitsOf(words[1])
-	if !ok || len(arity) != 1 {
+	arity, ok := digitOf(words[1])
+	if !ok {
 		return Rel{}, false
 	}
-	r := Rel{Arity: arity[0]}
+	r := Rel{Arity: arity}
 	for _, word := range words[2:] {
 		tuple, ok := digitsOf(word)
 		if !ok {
@@ -673,11 +682,11 @@ func templateOfText(text string) (Template, bool) {
 	text, ended := strings.CutSuffix(text, "\n")
 	lines := strings.Split(text, "\n")
 	word, named := strings.CutPrefix(lines[0], "template ")
-	size, ok := digitsOf(word)
-	if !ended || !named || !ok || len(size) != 1 {
+	size, ok := digitOf(word)
+	if !ended || !named || !ok {
 		return Template{}, false
 	}
-	t := Template{Size: size[0]}
+	t := Template{Size: size}
 	for _, line := range lines[1:] {
 		r, ok := relOfText(t.Size, line)
 		if !ok {
