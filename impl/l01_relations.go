@@ -197,6 +197,9 @@ func relOf(size, arity int64, b tupleBits) Rel {
 	return r
 }
 
+// isEmptyRel reports whether a relation has no tuples.
+func isEmptyRel(r Rel) bool { return len(r.Tuples) == 0 }
+
 // ValidRel reports whether r is valid for a size.
 func ValidRel(size int64, r Rel) bool {
 	if !isSize(size) || !isArity(r.Arity) {
