@@ -584,15 +584,28 @@ func CoreOf(t Template) (Template, []int64, int64) {
 	return core, values, OK
 }
 
+// writeHead appends a word and some numbers behind it, separated by blanks.
+func writeHead(b *strings.Builder, word string, numbers ...int64) {
+	b.WriteString(word)
+	for _, number := range numbers {
+		b.WriteByte(' ')
+		b.WriteString(strconv.FormatInt(number, 10))
+	}
+}
+
+// writeDigits appends the digits of a list.
+func writeDigits(b *strings.Builder, list []int64) {
+	for _, number := range list {
+		b.WriteByte(byte('0' + number))
+	}
+}
+
 // writeRel appends the text of a valid relation.
 func writeRel(b *strings.Builder, r Rel) {
-	b.WriteString("rel ")
-	b.WriteString(strconv.FormatInt(r.Arity, 10))
+	writeHead(b, "rel", r.Arity)
 	for _, tuple := range r.Tuples {
 		b.WriteByte(' ')
-		for _, value := range tuple {
-			b.WriteByte(byte('0' + value))
-		}
+		writeDigits(b, tuple)
 	}
 }
 
@@ -670,8 +683,7 @@ func TemplateText(t Template) string {
 		return ""
 	}
 	var b strings.Builder
-	b.WriteString("template ")
-	b.WriteString(strconv.FormatInt(t.Size, 10))
+	writeHead(&b, "template", t.Size)
 	b.WriteByte('\n')
 	for _, r := range t.Rels {
 		writeRel(&b, r)
@@ -680,17 +692,24 @@ func TemplateText(t Template) string {
 	return b.String()
 }
 
-// templateOfText returns the valid template with the given text.
-func templateOfText(text string) (Template, bool) {
+// headedLines returns what the first line of a text has behind a word, and the
+// other lines; false if it has not this word, or the last line does not end.
+func headedLines(text, word string) (string, []string, bool) {
 	text, ended := strings.CutSuffix(text, "\n")
 	lines := strings.Split(text, "\n")
-	word, named := strings.CutPrefix(lines[0], "template ")
-	size, ok := digitOf(word)
-	if !ended || !named || !ok {
+	head, named := strings.CutPrefix(lines[0], word+" ")
+	return head, lines[1:], ended && named
+}
+
+// templateOfText returns the valid template with the given text.
+func templateOfText(text string) (Template, bool) {
+	head, lines, hasHead := headedLines(text, "template")
+	size, isDigit := digitOf(head)
+	if !hasHead || !isDigit {
 		return Template{}, false
 	}
 	t := Template{Size: size}
-	for _, line := range lines[1:] {
+	for _, line := range lines {
 		r, ok := relOfText(t.Size, line)
 		if !ok {
 			return Template{}, false
