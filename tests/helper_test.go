@@ -71,18 +71,24 @@ func at(tuple, places []int64) []int64 {
 	return values
 }
 
+// allRels returns all relations of a size and an arity.
+func allRels(size, arity int64) []impl.Rel {
+	var rels []impl.Rel
+	for mask := range 1 << len(listsOf(size, arity)) {
+		i := -1
+		rels = append(rels, relWhere(size, arity, func([]int64) bool { i++; return mask>>i&1 == 1 }))
+	}
+	return rels
+}
+
 // someRels returns relations of a size and an arity: all if there are few,
 // otherwise the extreme ones and some others.
 func someRels(size, arity int64) []impl.Rel {
 	lists := listsOf(size, arity)
-	var rels []impl.Rel
 	if len(lists) <= 4 {
-		for mask := range 1 << len(lists) {
-			i := -1
-			rels = append(rels, relWhere(size, arity, func([]int64) bool { i++; return mask>>i&1 == 1 }))
-		}
-		return rels
+		return allRels(size, arity)
 	}
+	var rels []impl.Rel
 	source := rand.New(rand.NewPCG(uint64(size), uint64(arity)))
 	for _, percent := range []int{0, 5, 20, 50, 90, 100} {
 		rels = append(rels, relWhere(size, arity, func([]int64) bool { return source.IntN(100) < percent }))

@@ -20,14 +20,19 @@ func system(short string) impl.System {
 	var s impl.System
 	fmt.Sscan(words[0]+" "+words[1], &s.Prime, &s.Unknowns)
 	for _, word := range words[2:] {
-		left, right, _ := strings.Cut(word, "=")
-		e := impl.Equation{Right: int64(right[0] - '0')}
-		for _, digit := range left {
-			e.Left = append(e.Left, int64(digit-'0'))
-		}
-		s.List = append(s.List, e)
+		s.List = append(s.List, equation(word))
 	}
 	return s
+}
+
+// equation returns the equation that a short text tells, such as "110=1".
+func equation(short string) impl.Equation {
+	left, right, _ := strings.Cut(short, "=")
+	e := impl.Equation{Right: int64(right[0] - '0')}
+	for _, digit := range left {
+		e.Left = append(e.Left, int64(digit-'0'))
+	}
+	return e
 }
 
 // shortSystem writes a system down, such that system tells it again.
@@ -43,10 +48,15 @@ func shortSystem(s impl.System) string {
 func roomySystem(s impl.System) impl.System {
 	list := make([]impl.Equation, 0, len(s.List)+2)
 	for _, e := range s.List {
-		list = append(list, impl.Equation{Left: roomyList(e.Left...), Right: e.Right})
+		list = append(list, roomyEquation(e))
 	}
 	copy(list[len(list):cap(list)], []impl.Equation{{Left: []int64{9}, Right: 9}, {Right: 8}})
 	return impl.System{Prime: s.Prime, Unknowns: s.Unknowns, List: list}
+}
+
+// roomyEquation returns the same equation with capacity left.
+func roomyEquation(e impl.Equation) impl.Equation {
+	return impl.Equation{Left: roomyList(e.Left...), Right: e.Right}
 }
 
 // holdsBy tells by the definition whether values make an equation true.
@@ -168,24 +178,34 @@ func isRefutationBy(s impl.System, by []int64) bool {
 	return false
 }
 
+// randomEquation returns an equation about so many percent of whose numbers can be
+// other ones than 0.
+func randomEquation(source *rand.Rand, prime, unknowns int64, percent int) impl.Equation {
+	e := impl.Equation{Right: source.Int64N(prime)}
+	for range unknowns {
+		number := source.Int64N(prime)
+		if source.IntN(100) >= percent {
+			number = 0
+		}
+		e.Left = append(e.Left, number)
+	}
+	return e
+}
+
+// randomSystem returns a system with so many equations.
+func randomSystem(source *rand.Rand, prime, unknowns int64, count, percent int) impl.System {
+	s := impl.System{Prime: prime, Unknowns: unknowns}
+	for range count {
+		s.List = append(s.List, randomEquation(source, prime, unknowns, percent))
+	}
+	return s
+}
+
 // eachSystem runs a check for many systems.
 func eachSystem(seed uint64, count int, check func(s impl.System)) {
 	source := rand.New(rand.NewPCG(seed, 7))
 	for i := range count {
-		s := impl.System{Prime: 2 + int64(i)%2, Unknowns: 1 + source.Int64N(5)}
-		percent := 30 + source.IntN(70)
-		for range source.IntN(8) {
-			e := impl.Equation{Right: source.Int64N(s.Prime)}
-			for range s.Unknowns {
-				number := source.Int64N(s.Prime)
-				if source.IntN(100) >= percent {
-					number = 0
-				}
-				e.Left = append(e.Left, number)
-			}
-			s.List = append(s.List, e)
-		}
-		check(s)
+		check(randomSystem(source, 2+int64(i)%2, 1+source.Int64N(5), source.IntN(8), 30+source.IntN(70)))
 	}
 }
 
@@ -260,6 +280,22 @@ func TestRefutationsByDefinition(t *testing.T) {
 	wantCall(t, "IsRefutation", []any{false, 0}, impl.IsRefutation, system("2 3"), []int64{1})
 }
 
+func TestExampleOfEquations(t *testing.T) {
+	three, two := system("2 3 110=1 011=1 101=1"), system("2 3 110=1 011=1")
+	wantCall(t, "AnswersOf", []any{"[]", 0}, impl.AnswersOf, three)
+	wantCall(t, "CountAnswers", []any{0, 0}, impl.CountAnswers, three)
+	wantCode(t, "SolveSystem", impl.ErrNotFound, impl.SolveSystem, three)
+	wantCall(t, "RefuteSystem", []any{"[1 1 1]", 0}, impl.RefuteSystem, three)
+	wantCall(t, "IsRefutation", []any{true, 0}, impl.IsRefutation, three, []int64{1, 1, 1})
+	wantCall(t, "ReduceSystem", []any{system("2 3 101=0 011=1"), 0}, impl.ReduceSystem, two)
+	wantCall(t, "AnswersOf", []any{"[[0 1 0] [1 0 1]]", 0}, impl.AnswersOf, two)
+	r := impl.Rel{Arity: 2, Tuples: [][]int64{{0, 1}, {1, 0}}}
+	wantCall(t, "IsAffine", []any{true, 0}, impl.IsAffine, 2, r)
+	wantCall(t, "EquationsOf", []any{system("2 2 11=1"), 0}, impl.EquationsOf, 2, r)
+	wantCall(t, "RelOfSystem", []any{r, 0}, impl.RelOfSystem, system("2 2 11=1"))
+	same(t, "limits", []int64{impl.MaxUnknowns, impl.MaxEquations, impl.MaxAnswers}, []int64{12, 24, 500})
+}
+
 func TestKnownSystems(t *testing.T) {
 	for _, c := range []struct{ s, reduced, solved, refuted string }{
 		// the example of chapter 7
@@ -267,6 +303,10 @@ func TestKnownSystems(t *testing.T) {
 		{"2 1", "2 1", "[0]", ""}, {"3 12", "3 12", "[0 0 0 0 0 0 0 0 0 0 0 0]", ""},
 		{"2 2 00=0", "2 2", "[0 0]", ""}, {"2 2 00=1", "2 2 00=1", "", "[1]"}, {"3 2 00=0 00=2", "3 2 00=1", "", "[0 2]"},
 		{"3 1 2=1", "3 1 1=2", "[2]", ""}, {"3 2 02=1 20=1", "3 2 10=2 01=2", "[2 2]", ""},
+		// equations that come twice, numbers other than 1, and unknowns that no equation has
+		{"2 2 11=1 11=1", "2 2 11=1", "[1 0]", ""}, {"3 2 21=2 21=2 12=1", "3 2 12=1", "[1 0]", ""}, {"3 3 020=1 020=1", "3 3 010=2", "[0 2 0]", ""}, {"3 3 202=0 101=1", "3 3 000=1", "", "[1 1]"},
+		// an equation that is done has the unknown, but only those behind are looked at
+		{"2 3 110=1 111=0", "2 3 110=1 001=1", "[1 0 1]", ""}, {"2 3 110=1 111=0 010=1", "2 3 100=0 010=1 001=1", "[0 1 1]", ""}, {"3 3 120=1 122=2 010=0", "3 3 100=1 010=0 001=2", "[1 0 2]", ""},
 		// the first equation with the unknown changes places, which tells the one that is met first
 		{"2 2 01=0 11=0 00=1 11=1", "2 2 00=1", "", "[0 0 1 0]"}, {"2 2 00=1 01=0 11=0 11=1", "2 2 00=1", "", "[1 0 0 0]"}, {"2 2 00=1 01=0 01=1 11=0", "2 2 00=1", "", "[0 1 1 0]"},
 		{"3 2 11=0 11=1 11=2", "3 2 00=1", "", "[2 1 0]"}, {"3 2 11=0 11=2 11=1", "3 2 00=1", "", "[1 2 0]"}, {"3 2 22=0 11=1", "3 2 00=1", "", "[1 1]"},
@@ -283,21 +323,13 @@ func TestKnownSystems(t *testing.T) {
 			wantCall(t, "RefuteSystem", []any{c.refuted, 0}, impl.RefuteSystem, s)
 		}
 	}
-	same(t, "limits", []int64{impl.MaxUnknowns, impl.MaxEquations}, []int64{12, 24})
 }
 
 func TestLargestSystems(t *testing.T) {
 	source := rand.New(rand.NewPCG(3, 7))
 	for _, prime := range []int64{2, 3} {
 		for range 10 {
-			s := impl.System{Prime: prime, Unknowns: 12}
-			for range 24 {
-				e := impl.Equation{Right: source.Int64N(prime)}
-				for range 12 {
-					e.Left = append(e.Left, source.Int64N(prime))
-				}
-				s.List = append(s.List, e)
-			}
+			s := randomSystem(source, prime, 12, 24, 100)
 			checkSystem(t, s)
 			// with the right sides of one answer
 			answer := make([]int64, 12)
@@ -335,8 +367,18 @@ func TestSystemsThatAreNotValid(t *testing.T) {
 		wantCode(t, "ReduceSystem", impl.ErrInvalid, impl.ReduceSystem, s)
 		wantCode(t, "SolveSystem", impl.ErrInvalid, impl.SolveSystem, s)
 		wantCode(t, "RefuteSystem", impl.ErrInvalid, impl.RefuteSystem, s)
-		for _, by := range [][]int64{nil, {1}, {1, 1}, {-1}, {9, 9, 9}} {
-			wantCode(t, "IsRefutation", impl.ErrInvalid, impl.IsRefutation, s, by)
+		wantCode(t, "RankOfSystem", impl.ErrInvalid, impl.RankOfSystem, s)
+		wantCode(t, "CountAnswers", impl.ErrInvalid, impl.CountAnswers, s)
+		wantCode(t, "AnswersOf", impl.ErrInvalid, impl.AnswersOf, s)
+		wantCode(t, "RelOfSystem", impl.ErrInvalid, impl.RelOfSystem, s)
+		wantCall(t, "SystemText", []any{""}, impl.SystemText, s)
+		for _, list := range [][]int64{nil, {0}, {1}, {1, 1}, {-1}, {9, 9, 9}} {
+			wantCode(t, "IsRefutation", impl.ErrInvalid, impl.IsRefutation, s, list)
+			wantCode(t, "HoldsIn", impl.ErrInvalid, impl.HoldsIn, s, list)
+			for _, right := range []int64{0, 1, -1} {
+				wantCode(t, "Follows", impl.ErrInvalid, impl.Follows, s, impl.Equation{Left: list, Right: right})
+				wantCode(t, "DerivationOf", impl.ErrInvalid, impl.DerivationOf, s, impl.Equation{Left: list, Right: right})
+			}
 		}
 	}
 	for _, short := range []string{"2 1", "3 12", "2 1" + repeated(" 1=0", 24), "3 12 222222222222=2"} {
@@ -395,10 +437,7 @@ func checkEquations(t *testing.T, prime int64, r impl.Rel) bool {
 func TestEquationsOfRelations(t *testing.T) {
 	count := 0
 	for _, c := range [][2]int64{{2, 1}, {2, 2}, {2, 3}, {3, 1}, {3, 2}} {
-		lists := listsOf(c[0], c[1])
-		for mask := range 1 << len(lists) {
-			i := -1
-			r := relWhere(c[0], c[1], func([]int64) bool { i++; return mask>>i&1 == 1 })
+		for _, r := range allRels(c[0], c[1]) {
 			if checkEquations(t, c[0], r) {
 				count++
 			}
@@ -409,14 +448,7 @@ func TestEquationsOfRelations(t *testing.T) {
 	source := rand.New(rand.NewPCG(4, 7))
 	for i := range 60 {
 		prime, arity := 2+int64(i)%2, 3+source.Int64N(2)
-		s := impl.System{Prime: prime, Unknowns: arity}
-		for range 1 + source.IntN(4) {
-			e := impl.Equation{Right: source.Int64N(prime)}
-			for range arity {
-				e.Left = append(e.Left, source.Int64N(prime))
-			}
-			s.List = append(s.List, e)
-		}
+		s := randomSystem(source, prime, arity, 1+source.IntN(4), 100)
 		r := impl.Rel{Arity: arity, Tuples: answersBy(s)}
 		same(t, "affine", checkEquations(t, prime, r), len(r.Tuples) > 0)
 		if len(r.Tuples) > 2 {
@@ -481,4 +513,17 @@ func TestLargeArgumentsOfEquations(t *testing.T) {
 	same(t, "IsRefutation", []any{is, code}, "[false 0]")
 	_, code = impl.EquationsOf(2, impl.Rel{Arity: 1, Tuples: slices.Repeat([][]int64{{0}}, 300000)})
 	same(t, "EquationsOf", code, impl.ErrInvalid)
+	_, code = impl.HoldsIn(system("2 1 1=0 1=1"), long)
+	same(t, "HoldsIn", code, impl.ErrRange)
+	_, code = impl.DerivationOf(system("2 1 1=0 1=1"), impl.Equation{Left: long})
+	same(t, "DerivationOf", code, impl.ErrRange)
+	_, code = impl.Follows(impl.System{Prime: 2, Unknowns: 900000}, impl.Equation{Left: long})
+	same(t, "Follows", code, impl.ErrInvalid)
+	wide := impl.System{Prime: 2, Unknowns: 900000, List: []impl.Equation{{Left: long}}}
+	same(t, "SameSystem", impl.SameSystem(wide, impl.System{Prime: 2, Unknowns: 900000, List: []impl.Equation{{Left: slices.Clone(long)}}}), true)
+	same(t, "SystemText", impl.SystemText(wide), "")
+	hull, code := impl.AffineHull(3, 2, slices.Repeat([][]int64{{0, 1}, {2, 2}}, 150000))
+	same(t, "AffineHull", []any{hull, code}, "[{2 [[0 1] [1 0] [2 2]]} 0]")
+	_, code = impl.AffineHull(3, 2, slices.Repeat([][]int64{nil}, 900000))
+	same(t, "AffineHull", code, impl.ErrRange)
 }
