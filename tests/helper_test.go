@@ -229,10 +229,18 @@ func snapshotOf(list []reflect.Value) string {
 	return b.String()
 }
 
+// tellsMore reports whether the result ahead of a code other than OK need not be
+// zero: the index of a step or a line, ahead of ErrProof, and how many steps a
+// search has made.
+func tellsMore(f any, code int64) bool {
+	isSearch := reflect.ValueOf(f).Pointer() == reflect.ValueOf(impl.SearchFor).Pointer()
+	return code == impl.ErrProof || isSearch && code == impl.ErrNotFound
+}
+
 // call calls a function twice, and checks what holds for all functions: the
 // arguments are not changed, the results are equal and have memory of their
 // own, and all others are zero if the last one is a code other than OK (but for
-// the index of a step, ahead of ErrProof). It returns the results.
+// what tellsMore allows). It returns the results.
 func call(t *testing.T, f any, args ...any) []any {
 	t.Helper()
 	var in []reflect.Value
@@ -254,7 +262,7 @@ func call(t *testing.T, f any, args ...any) []any {
 	for i, v := range out {
 		results = append(results, v.Interface())
 		same(t, "second call", again[i].Interface(), v.Interface())
-		isIndex := i == len(out)-2 && last.CanInt() && last.Int() == impl.ErrProof
+		isIndex := i == len(out)-2 && last.CanInt() && tellsMore(f, last.Int())
 		if len(out) > 1 && last.Int() != impl.OK && i < len(out)-1 && !isIndex && !isZero(v) {
 			t.Errorf("result %d beside the code %d is %v", i, last.Int(), v)
 		}
