@@ -167,6 +167,14 @@ func (b tupleBits) without(c tupleBits) tupleBits {
 	return b
 }
 
+// apart returns the tuples of only one of both.
+func (b tupleBits) apart(c tupleBits) tupleBits {
+	for i := range b {
+		b[i] ^= c[i]
+	}
+	return b
+}
+
 // isPartOf reports whether all tuples are tuples of another one.
 func (b tupleBits) isPartOf(c tupleBits) bool { return b.meet(c) == b }
 
@@ -651,15 +659,9 @@ func relOfText(size int64, text string) (Rel, bool) {
 	if !ok {
 		return Rel{}, false
 	}
-	r := Rel{Arity: arity}
-	for _, word := range words[2:] {
-		tuple, ok := digitsOf(word)
-		if !ok {
-			return Rel{}, false
-		}
-		r.Tuples = append(r.Tuples, tuple)
-	}
-	if !ValidRel(size, r) {
+	tuples, ok := readAll(words[2:], digitsOf)
+	r := Rel{Arity: arity, Tuples: tuples}
+	if !ok || !ValidRel(size, r) {
 		return Rel{}, false
 	}
 	return r, true
@@ -692,13 +694,56 @@ func TemplateText(t Template) string {
 	return b.String()
 }
 
+// readAll returns what each of some texts is read as, false if one cannot be.
+func readAll[T any](texts []string, read func(text string) (T, bool)) ([]T, bool) {
+	var list []T
+	for _, text := range texts {
+		element, ok := read(text)
+		if !ok {
+			return nil, false
+		}
+		list = append(list, element)
+	}
+	return list, true
+}
+
+// textOfAll returns a line with the text of each element of a list; the empty
+// string if one has no text, or there are more than most.
+func textOfAll[T any](list []T, most int, textOf func(element T) string) string {
+	if len(list) > most {
+		return ""
+	}
+	var b strings.Builder
+	for _, element := range list {
+		text := textOf(element)
+		if text == "" {
+			return ""
+		}
+		b.WriteString(text)
+		b.WriteByte('\n')
+	}
+	return b.String()
+}
+
+// endedLines returns the lines of a text, and whether the last one ends. The
+// empty text has none.
+func endedLines(text string) ([]string, bool) {
+	if text == "" {
+		return nil, true
+	}
+	text, ended := strings.CutSuffix(text, "\n")
+	return strings.Split(text, "\n"), ended
+}
+
 // headedLines returns what the first line of a text has behind a word, and the
 // other lines; false if it has not this word, or the last line does not end.
 func headedLines(text, word string) (string, []string, bool) {
-	text, ended := strings.CutSuffix(text, "\n")
-	lines := strings.Split(text, "\n")
+	lines, ended := endedLines(text)
+	if !ended || len(lines) == 0 {
+		return "", nil, false
+	}
 	head, named := strings.CutPrefix(lines[0], word+" ")
-	return head, lines[1:], ended && named
+	return head, lines[1:], named
 }
 
 // templateOfText returns the valid template with the given text.
@@ -708,15 +753,9 @@ func templateOfText(text string) (Template, bool) {
 	if !hasHead || !isDigit {
 		return Template{}, false
 	}
-	t := Template{Size: size}
-	for _, line := range lines {
-		r, ok := relOfText(t.Size, line)
-		if !ok {
-			return Template{}, false
-		}
-		t.Rels = append(t.Rels, r)
-	}
-	if !ValidTemplate(t) {
+	rels, ok := readAll(lines, func(line string) (Rel, bool) { return relOfText(size, line) })
+	t := Template{Size: size, Rels: rels}
+	if !ok || !ValidTemplate(t) {
 		return Template{}, false
 	}
 	return t, true
